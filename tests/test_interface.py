@@ -1,0 +1,84 @@
+"""Each name of the interface stands in its own file, with its arguments."""
+
+import importlib
+import inspect
+import unittest
+
+ERRORS = {
+    "VouchError": None, "Wrong": "(place)", "TooMany": "(limit)", "Unfit": "()", "NoDeed": "()",
+    "Unknown": "(thing)", "Taken": "(thing)", "Nothing": "()", "Broken": "(at)", "NoText": "()",
+    "NoCommand": "()",
+}
+
+FUNCTIONS = {
+    "words": {
+        "is_integer": "(thing)", "is_word": "(thing)", "is_name": "(thing)", "is_holder": "(thing)",
+        "is_day": "(thing)", "is_count": "(thing)", "is_pair": "(thing)", "begins": "(name, other)",
+    },
+    "regions": {"cells": "(several)"},
+}
+
+SETS = {name: "(self, other)" for name in ("__eq__", "__and__", "__or__", "__sub__", "within")}
+SETS.update({name: "(self)" for name in ("__invert__", "__len__", "__bool__", "__repr__")})
+
+# The methods, and the signature with which each is read off its class.
+METHODS = {
+    ("regions", "Region"): {
+        **SETS, "__init__": "(self, rows=())", "__contains__": "(self, name)", "rows": "(self)",
+        "least": "(self)", "of": "(allowed, barred)", "under": "(name)",
+    },
+    ("days", "Days"): {
+        **SETS, "__init__": "(self, spans=())", "__contains__": "(self, day)", "spans": "(self)",
+        "earliest": "(self)", "beyond": "(self, day)", "turn": "(self, day)",
+    },
+}
+
+CLASS_METHODS = [("regions", "Region", "of"), ("regions", "Region", "under")]
+
+
+def module(name):
+    return importlib.import_module("vouchchains." + name)
+
+
+def signature(thing):
+    return str(inspect.signature(thing))
+
+
+class Interface(unittest.TestCase):
+
+    def check_home(self, thing, home, name):
+        self.assertEqual(thing.__module__, "vouchchains." + home)
+        self.assertEqual(thing.__name__, name)
+
+    def test_errors(self):
+        for name, arguments in ERRORS.items():
+            error = getattr(module("errors"), name)
+            self.assertTrue(inspect.isclass(error))
+            self.check_home(error, "errors", name)
+            if arguments is not None:
+                self.assertEqual(signature(error), arguments)
+
+    def test_functions(self):
+        for home, functions in FUNCTIONS.items():
+            for name, arguments in functions.items():
+                function = getattr(module(home), name)
+                self.assertTrue(inspect.isfunction(function))
+                self.check_home(function, home, name)
+                self.assertEqual(signature(function), arguments, name)
+
+    def test_classes_and_the_methods_in_their_own_bodies(self):
+        for (home, name), methods in METHODS.items():
+            made = getattr(module(home), name)
+            self.assertTrue(inspect.isclass(made))
+            self.check_home(made, home, name)
+            for method, arguments in methods.items():
+                self.assertIn(method, vars(made))
+                self.assertEqual(signature(getattr(made, method)), arguments, (name, method))
+
+    def test_class_methods(self):
+        for home, name, method in CLASS_METHODS:
+            self.assertIsInstance(vars(getattr(module(home), name))[method], classmethod)
+
+
+if __name__ == "__main__":
+    unittest.main()

@@ -1,0 +1,1 @@
+"""Papers that vouch for papers: questions to bags of them, answered by paths or tables."""
