@@ -16,6 +16,7 @@ FUNCTIONS = {
         "is_day": "(thing)", "is_count": "(thing)", "is_pair": "(thing)", "begins": "(name, other)",
     },
     "regions": {"cells": "(several)"},
+    "carries": {"unlike": "(one, other)"},
 }
 
 SETS = {name: "(self, other)" for name in ("__eq__", "__and__", "__or__", "__sub__", "within")}
@@ -31,9 +32,59 @@ METHODS = {
         **SETS, "__init__": "(self, spans=())", "__contains__": "(self, day)", "spans": "(self)",
         "earliest": "(self)", "beyond": "(self, day)", "turn": "(self, day)",
     },
+    ("carries", "Carry"): {
+        "__init__": "(self, rest, rows=())", "rows": "(self)", "carried": "(self, rule)",
+        "within": "(self, other)", "of": "(pairs, any_rule, *, any_counts=True, maps_count=True)",
+        "__eq__": "(self, other)", "__mul__": "(self, other)", "__or__": "(self, other)",
+        "__repr__": "(self)",
+    },
+    ("limits", "Limits"): {
+        "__init__": "(self, first, last, *, steps=0, region=None, uses=None, pairs=(), "
+                    "any_rule=True, unruled_for=None, any_for=None, maps_for=None)",
+        "row": "(self)", "on": "(self, day, use)", "carry": "(self, any_counts, maps_count)",
+        "with_days": "(self, first, last)", "within": "(self, other)", "__eq__": "(self, other)",
+    },
+    ("papers", "Paper"): {
+        "__init__": "(self, issuer, serial, holder, limits)", "row": "(self)",
+        "renewed": "(self, serial, first, last)", "__eq__": "(self, other)",
+    },
+    ("papers", "Anchor"): {
+        "__init__": "(self, holder, limits)", "row": "(self)", "__eq__": "(self, other)",
+    },
+    ("papers", "Notice"): {
+        "__init__": "(self, issuer, day, last, entries=())", "row": "(self)",
+        "__eq__": "(self, other)",
+    },
+    ("bags", "Bag"): {
+        "__init__": "(self, papers=(), notices=())", "papers": "(self)", "notices": "(self)",
+        "issued": "(self, holder)", "issuers": "(self)", "named": "(self)",
+        "without": "(self, units)", "back": "(self, issuer, serial)", "covered": "(self, issuer)",
+        "__eq__": "(self, other)", "__or__": "(self, other)", "__len__": "(self)",
+        "__contains__": "(self, thing)",
+    },
+    ("bags", "Store"): {
+        "__init__": "(self, anchors=())", "anchors": "(self)", "named": "(self)",
+        "without": "(self, anchor)", "__eq__": "(self, other)", "__or__": "(self, other)",
+        "__len__": "(self)", "__contains__": "(self, thing)",
+    },
+    ("bags", "Question"): {
+        "__init__": "(self, holder, use, day, rules=None, strict=False)", "on": "(self, day)",
+        "about": "(self, holder)", "__eq__": "(self, other)",
+    },
 }
 
-CLASS_METHODS = [("regions", "Region", "of"), ("regions", "Region", "under")]
+CLASS_METHODS = [("regions", "Region", "of"), ("regions", "Region", "under"),
+                 ("carries", "Carry", "of")]
+
+PROPERTIES = {
+    ("carries", "Carry"): ["rest"],
+    ("limits", "Limits"): ["first", "last", "steps", "region", "uses", "pairs", "any_rule",
+                           "unruled_for", "any_for", "maps_for"],
+    ("papers", "Paper"): ["issuer", "serial", "holder", "limits"],
+    ("papers", "Anchor"): ["holder", "limits"],
+    ("papers", "Notice"): ["issuer", "day", "last", "entries"],
+    ("bags", "Question"): ["holder", "use", "day", "rules", "strict"],
+}
 
 
 def module(name):
@@ -78,6 +129,12 @@ class Interface(unittest.TestCase):
     def test_class_methods(self):
         for home, name, method in CLASS_METHODS:
             self.assertIsInstance(vars(getattr(module(home), name))[method], classmethod)
+
+    def test_properties(self):
+        for (home, name), properties in PROPERTIES.items():
+            made = getattr(module(home), name)
+            found = [word for word, thing in vars(made).items() if isinstance(thing, property)]
+            self.assertEqual(found, properties)
 
 
 if __name__ == "__main__":

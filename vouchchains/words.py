@@ -1,4 +1,4 @@
-"""What the smallest things are: integers, words, names, holders, days, counts and pairs."""
+"""What the smallest things are, such as words, names and days, and how some of them compare."""
 
 LETTERS = "abcdefghijklmnopqrstuvwxyz"
 LONGEST_WORD = 8
@@ -41,6 +41,21 @@ def is_count(thing):
 def is_pair(thing):
     """Whether a thing is a pair of rules."""
     return isinstance(thing, tuple) and len(thing) == 2 and is_word(thing[0]) and is_word(thing[1])
+
+
+def is_serial(thing):
+    """Whether a thing is a serial: an integer that is not negative."""
+    return is_integer(thing) and thing >= 0
+
+
+def are_words(thing):
+    """Whether a thing is a list or a tuple of words."""
+    return isinstance(thing, (list, tuple)) and all([is_word(word) for word in thing])
+
+
+def at_most(count, other):
+    """Whether a count is at most another one; None is the greatest."""
+    return other is None or (count is not None and count <= other)
 
 
 def begins(name, other):
