@@ -3,7 +3,8 @@
 from vouchchains.carries import Carry
 from vouchchains.checks import check
 from vouchchains.regions import Region
-from vouchchains.words import are_words, at_most, is_count, is_day, is_integer, is_pair
+from vouchchains.words import (are_words, at_most, is_count, is_day, is_integer, is_pair,
+                               optional)
 
 MOST_STEPS = 8
 
@@ -27,9 +28,9 @@ class Limits:
         self._unruled_for = unruled_for
         self._any_for = any_for
         self._maps_for = maps_for
-        self._row = (first, last, steps, tuple(self._region.rows()), _optional(self._uses),
-                     self._pairs, any_rule, _optional(unruled_for), _optional(any_for),
-                     _optional(maps_for))
+        self._row = (first, last, steps, tuple(self._region.rows()), optional(self._uses),
+                     self._pairs, any_rule, optional(unruled_for), optional(any_for),
+                     optional(maps_for))
 
     @property
     def first(self):
@@ -121,11 +122,6 @@ def _is_steps(thing):
 def _are_pairs(thing):
     """Whether a thing is a list or a tuple of pairs of rules."""
     return isinstance(thing, (list, tuple)) and all([is_pair(pair) for pair in thing])
-
-
-def _optional(thing):
-    """What a row has for a thing that may be None: rows must be such that they can be ordered."""
-    return () if thing is None else (thing,)
 
 
 def _days_within(one, other):

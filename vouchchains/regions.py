@@ -80,6 +80,20 @@ def cells(several):
     return sorted(set([(), *[row[0] for region in several for row in region._rows]]))
 
 
+def flags(names, region):
+    """Whether each of some ascending names, among them those of the rows, lies in a Region."""
+    told = {name: flag for name, flag in region._rows}
+    found = []
+    over = [((), False)]
+    for name in names:
+        while not begins(over[-1][0], name):
+            over.pop()
+        if name in told:
+            over.append((name, told[name]))
+        found.append(over[-1][1])
+    return found
+
+
 def _is_row(thing):
     """Whether a thing is a row of a region."""
     return (isinstance(thing, tuple) and len(thing) == 2
@@ -106,25 +120,11 @@ def _shortest(rows):
     return tuple(kept)
 
 
-def _flags(names, rows):
-    """Whether each of some ascending names, among them those of the rows, lies in their region."""
-    told = {name: flag for name, flag in rows}
-    flags = []
-    over = [((), False)]
-    for name in names:
-        while not begins(over[-1][0], name):
-            over.pop()
-        if name in told:
-            over.append((name, told[name]))
-        flags.append(over[-1][1])
-    return flags
-
-
 def _combined(one, other, wanted):
     """The Region of the names whose flags in two Regions are among the wanted ones."""
     names = cells([one, other])
-    ours = _flags(names, one._rows)
-    theirs = _flags(names, other._rows)
+    ours = flags(names, one)
+    theirs = flags(names, other)
     return _made(_shortest([(name, (mine, yours) in wanted)
                             for name, mine, yours in zip(names, ours, theirs)]))
 

@@ -58,6 +58,11 @@ def at_most(count, other):
     return other is None or (count is not None and count <= other)
 
 
+def optional(thing):
+    """What a row has for a thing that may be None: rows must be such that they can be ordered."""
+    return () if thing is None else (thing,)
+
+
 def begins(name, other):
     """Whether the other name begins with the first one."""
     return other[:len(name)] == name
