@@ -17,6 +17,30 @@ FUNCTIONS = {
     },
     "regions": {"cells": "(several)"},
     "carries": {"unlike": "(one, other)"},
+    "states": {
+        "starts": "(store, bag, question)", "step": "(state, paper, bag, question)",
+        "maximal": "(several)",
+    },
+    "judging": {
+        "judged": "(store, bag, question, path)", "holds": "(store, bag, question, path)",
+        "common": "(path)",
+    },
+    "pieces": {"apart": "(one, other)"},
+    "searching": {
+        "search": "(store, bag, question, *, limit=400)",
+        "table": "(store, bag, question, *, limit=400)",
+        "is_table": "(store, bag, question, thing)",
+    },
+    "listing": {"paths": "(store, bag, question, most)"},
+    "spans": {
+        "breaks": "(store, bag)", "open_parts": "(store, bag, question, *, limit=400)",
+        "open_days": "(store, bag, question, *, limit=400)",
+        "next_turn": "(store, bag, question, *, limit=400)",
+    },
+    "renewals": {
+        "with_paper": "(store, bag, question, path, at, paper)", "cover": "(wanted, offers)",
+        "cheapest": "(wanted, offers, prices)",
+    },
 }
 
 SETS = {name: "(self, other)" for name in ("__eq__", "__and__", "__or__", "__sub__", "within")}
@@ -71,6 +95,19 @@ METHODS = {
         "__init__": "(self, holder, use, day, rules=None, strict=False)", "on": "(self, day)",
         "about": "(self, holder)", "__eq__": "(self, other)",
     },
+    ("states", "State"): {
+        "__init__": "(self, holder, rule, left, unruled, any_left, maps_left, listed, region)",
+        "row": "(self)", "below": "(self, other)", "__eq__": "(self, other)",
+    },
+    ("pieces", "Piece"): {
+        "__init__": "(self, papers)", "carry": "(self, any_left, maps_left)", "papers": "(self)",
+        "fits": "(self, anchor, question)", "__eq__": "(self, other)", "__add__": "(self, other)",
+    },
+    ("known", "Archive"): {
+        "__init__": "(self, items)", "bag": "(self, day)", "whole": "(self)", "late": "(self)",
+        **{name: "(self, store, question, *, limit=400)"
+           for name in ("then", "now", "then_days", "now_days", "turned", "history")},
+    },
 }
 
 CLASS_METHODS = [("regions", "Region", "of"), ("regions", "Region", "under"),
@@ -84,6 +121,10 @@ PROPERTIES = {
     ("papers", "Anchor"): ["holder", "limits"],
     ("papers", "Notice"): ["issuer", "day", "last", "entries"],
     ("bags", "Question"): ["holder", "use", "day", "rules", "strict"],
+    ("states", "State"): ["holder", "rule", "left", "unruled", "any_left", "maps_left", "listed",
+                          "region"],
+    ("pieces", "Piece"): ["first", "last", "length", "steps", "names", "days", "region", "uses",
+                          "unruled_for", "any_for", "maps_for", "inner"],
 }
 
 
