@@ -435,10 +435,65 @@ class Apart(unittest.TestCase):
                 (rings({"any_for": 6}), rings({})),
                 (rings({"maps_for": 0}), rings({"maps_for": 1})),
                 (rings({"maps_for": 6}), rings({})),
+                (rings({"maps_for": 1}), rings({"maps_for": 2})),
+                (rings({"any_for": 0}), rings({"any_for": 1})),
                 (Piece([paper(ROOT, OTHER), paper(OTHER, ROOT)]), rings({}, {})),
                 (Piece([paper(ROOT, (ROOT[0] + ("x",), "k")),
                         paper((ROOT[0] + ("x",), "k"), ROOT)]), rings({}, {}))):
             self.check(one, other)
+
+    def test_lengths_where_nothing_follows(self):
+        self.check(rings({"steps": 0}), rings({}, {"steps": 0}))
+        self.check(rings({"steps": 2}, {}), rings({"steps": 2}, {}, {}))
+        self.check(Piece([ring()] * 8), Piece([ring()] * 7))
+        bare = {"any_rule": False}
+        self.check(rings({"steps": 0, **bare}), rings(bare, {"steps": 0, **bare}))
+
+    def test_without_a_rule_or_with_one_alone(self):
+        far, barred = Region.of([()], [("far",)]), {"any_rule": False}
+        for one, other in (
+                # Without a rule, other numbers of papers follow, or none.
+                (rings({"unruled_for": 0}, {}), rings({"unruled_for": 1}, {})),
+                (rings({"unruled_for": 1}, {}), rings({"unruled_for": 2}, {})),
+                (rings({"unruled_for": 0, **barred}), rings({"unruled_for": 1, **barred})),
+                # With a rule other numbers follow, without one as many.
+                (rings({"steps": 3, "unruled_for": 1}), rings({"steps": 5, "unruled_for": 1})),
+                (rings({"steps": 0, "unruled_for": 0}), rings({"steps": 1, "unruled_for": 0})),
+                (rings({"steps": 3, "unruled_for": 0, "any_for": 0, "maps_for": 0}),
+                 rings({"steps": 5, "unruled_for": 0, "any_for": 0, "maps_for": 0})),
+                # Other names may follow, without a rule or with one alone.
+                (rings({"region": far, **barred}), rings(barred)),
+                (rings({"region": far, "steps": 1, **barred}), rings({"steps": 1, **barred})),
+                (rings({"region": far, "unruled_for": 0}), rings({"unruled_for": 0})),
+                (rings({"region": far, "unruled_for": 0, "steps": 1}),
+                 rings({"unruled_for": 0, "steps": 1})),
+                (rings({"region": Region(), "unruled_for": 0}),
+                 rings({"unruled_for": 0, "steps": 1}))):
+            self.check(one, other)
+        # None of them holds without a rule, and with one they are alike.
+        self.check(rings({"unruled_for": 0}, {}, {}), rings({}, {"unruled_for": 0}, {}), False)
+
+    def test_rules_where_nothing_follows(self):
+        def last(**more):
+            return rings({"steps": 0, **more})
+
+        for one, other in (
+                (last(any_rule=False, pairs=[("a", "a")]), last(any_rule=False, pairs=[("b", "b")])),
+                (last(any_rule=False, pairs=[("a", "b")]), last(any_rule=False, pairs=[("c", "b")])),
+                (last(), last(any_rule=False, pairs=[("a", "a")])),
+                (last(any_rule=False), last(any_rule=False, pairs=[("a", "b")])),
+                # With mapping pairs barred before the piece.
+                (last(any_rule=False, pairs=[("a", "b")]), last(any_rule=False, pairs=[("a", "a")])),
+                # With any_rule barred before the piece.
+                (last(pairs=[("a", "a")]), last())):
+            self.check(one, other)
+
+    def test_cases_have_a_use_of_the_pieces(self):
+        for uses in (["web"], ["mail", "web"]):
+            self.check(rings({"uses": uses, "steps": 2}), rings({"uses": uses, "steps": 4}))
+            self.check(rings({"uses": uses, "first": 20, "last": 30}), rings({"uses": uses}))
+            self.check(rings({"uses": uses, "any_rule": False}), rings({"uses": uses}))
+            self.check(rings({"uses": uses}), rings({"uses": []}))
 
     def test_what_means_nothing_any_more(self):
         # Steps beyond eight papers, counts beyond the steps, and what follows none.

@@ -319,6 +319,15 @@ class Tables(unittest.TestCase):
                        State(keeper, None, 1, None, None, None, True, Region.under(("x",)))):
             self.assertIs(is_table(self.STORE, bag, ask(), [*found, barred]), True)
 
+    def test_whether_a_state_is_listed_means_nothing_unless_the_question_is_strict(self):
+        found, keeper = table(self.STORE, self.BAG, ask()), (("far",), "f")
+        bag = self.BAG | Bag([paper(keeper, END)], [Notice(keeper, 0, 99), Notice(ROOT, 0, 99),
+                                                    Notice(MID, 0, 99)])
+        for listed, strict, answer in ((True, False, False), (False, False, False),
+                                       (True, True, False), (False, True, True)):
+            leading = State(keeper, None, 1, None, None, None, listed, Region.under(()))
+            self.assertIs(is_table(self.STORE, bag, ask(strict=strict), [*found, leading]), answer)
+
     def test_states_with_left_0(self):
         found = table(self.STORE, self.BAG, ask())
         nothing = [State(holder, None, 0, None, None, None, True, Region.under(()))

@@ -69,11 +69,8 @@ def some_use(piece):
 
 def fresh(words):
     """A word that is none of some words."""
-    for head in ["", *LETTERS]:
-        for letter in LETTERS:
-            if head + letter not in words:
-                return head + letter
-    return LETTERS[:8]
+    longer = [first + second for first in LETTERS for second in LETTERS]
+    return [word for word in [*LETTERS, *longer] if word not in words][0]
 
 
 def named(pieces):
