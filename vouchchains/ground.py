@@ -19,8 +19,7 @@ class Stone:
         self.shown = bag.covered(paper.issuer)
         self.lists = lists(paper.limits)
         self.counts = counts(paper.limits)
-        self.carries = {(any_counts, maps_count): paper.limits.carry(any_counts, maps_count)
-                        for any_counts in (True, False) for maps_count in (True, False)}
+        self.carries = carries_of(paper.limits)
 
 
 class Root:
@@ -59,6 +58,12 @@ def counts(limits):
     """The steps and the counts of some Limits as numbers."""
     return (limits.steps, counted(limits.unruled_for), counted(limits.any_for),
             counted(limits.maps_for))
+
+
+def carries_of(limits):
+    """The Carry of some Limits, by whether any_rule counts and whether mapping pairs count."""
+    return {(any_counts, maps_count): limits.carry(any_counts, maps_count)
+            for any_counts in (True, False) for maps_count in (True, False)}
 
 
 def lists(limits):

@@ -3,6 +3,7 @@
 from vouchchains.bags import Bag, Store
 from vouchchains.carries import Carry
 from vouchchains.errors import TooMany, Unfit
+from vouchchains.ground import carries_of
 from vouchchains.judging import common, holds
 from vouchchains.parting import parted
 from vouchchains.words import at_most
@@ -27,6 +28,10 @@ class Piece:
         self._any_for = _least_sum([one.any_for for one in limits])
         self._maps_for = _least_sum([one.maps_for for one in limits])
         self._inner = _is_inner(self._papers) and self._length <= self._steps
+        self._rules = sorted(set([rule for one in limits for pair in one.pairs for rule in pair]))
+        # At each place what its paper carries, and up to which places its counts reach.
+        self._places = [(carries_of(one), _moved(one.any_for, place), _moved(one.maps_for, place))
+                        for place, one in enumerate(limits, start=1)]
         self._parts = (self._first, self._last, self._length, self._steps, self._names,
                        tuple(self._days.spans()), tuple(self._region.rows()), self._uses,
                        self._unruled_for, self._any_for, self._maps_for, self._inner)
@@ -97,23 +102,23 @@ class Piece:
 
     def carry(self, any_left, maps_left):
         """The Carry of the rules through all papers, with these counts before them."""
-        through = Carry(True)
-        for place, paper in enumerate(self._papers, start=1):
-            limits = paper.limits
-            through = through * limits.carry(at_most(place, any_left), at_most(place, maps_left))
-            any_left = _lesser(any_left, _moved(limits.any_for, place))
-            maps_left = _lesser(maps_left, _moved(limits.maps_for, place))
-        return through
+        rest = self._carried("", any_left, maps_left) != []
+        return Carry(rest, [(rule, self._carried(rule, any_left, maps_left))
+                            for rule in self._rules])
 
     def fits(self, anchor, question):
         """Whether the papers are a path that holds from an anchor, if no paper is back."""
         return holds(Store([anchor]), Bag(self._papers), question, self._papers)
 
     def __eq__(self, other):
-        return (isinstance(other, Piece) and self._parts == other._parts
-                and all([self.carry(any_left, maps_left) == other.carry(any_left, maps_left)
-                         for any_left in range(self._length + 1)
-                         for maps_left in range(self._length + 1)]))
+        if not isinstance(other, Piece) or self._parts != other._parts:
+            return False
+        # Greater counts than the length bar nothing in the pieces.
+        return all([self._carried(rule, any_left, maps_left)
+                    == other._carried(rule, any_left, maps_left)
+                    for rule in ["", *self._rules, *other._rules]
+                    for any_left in range(self._length + 1)
+                    for maps_left in range(self._length + 1)])
 
     def __add__(self, other):
         if self._last != other._first:
@@ -121,6 +126,16 @@ class Piece:
         if self._length + other._length > LONGEST:
             raise TooMany(LONGEST)
         return Piece([*self._papers, *other._papers])
+
+    def _carried(self, rule, any_left, maps_left):
+        """The ascending list of the rules to which a rule is carried through all papers."""
+        rules = [rule]
+        for place, (carries, any_until, maps_until) in enumerate(self._places, start=1):
+            carry = carries[at_most(place, any_left), at_most(place, maps_left)]
+            rules = sorted(set([far for near in rules for far in carry.carried(near)]))
+            any_left = _lesser(any_left, any_until)
+            maps_left = _lesser(maps_left, maps_until)
+        return rules
 
 
 def apart(one, other):

@@ -63,9 +63,10 @@ def _first_bare(wanted, offers):
 def _points(wanted, offers):
     """Some wanted days, ascending, such that offers which have all of them have all wanted ones.
 
-    They are the first wanted days at or behind each day on which offers change.
+    They are the first wanted days from each day on on which an offer begins or has ended: up to
+    the next such day, the same offers have all days. No wanted day is bare.
     """
-    turns = [0, *[day for first, last in offers for day in (first, last + 1)]]
+    turns = [day for first, last in offers for day in (first, last + 1)]
     found = [wanted.beyond(turn - 1) for turn in turns]
     return sorted(set([day for day in found if day is not None]))
 
