@@ -125,6 +125,14 @@ class Language(unittest.TestCase):
                     self.assertTrue(all(alias.asname is None for alias in node.names))
                     self.assertEqual(set(names) - self.offered(node.module), set(), path)
 
+    def test_each_import_is_used(self):
+        for path in PATHS:
+            tree = parsed(path)
+            names = {node.id for node in ast.walk(tree) if isinstance(node, ast.Name)}
+            for node in tree.body:
+                if isinstance(node, ast.ImportFrom):
+                    self.assertEqual({alias.name for alias in node.names} - names, set(), path)
+
     def offered(self, home):
         if home in LIBRARY:
             return LIBRARY[home]

@@ -542,6 +542,14 @@ class Maximal(unittest.TestCase):
                    state(rule="", unruled=1, maps_left=2)]
         self.assertEqual(maximal(several), plain.ascending(several))
 
+    def test_numbers_somewhat_beyond_the_bounds(self):
+        several = [state(left=12, any_left=9), state(left=12, any_left=None, maps_left=0)]
+        self.assertEqual(maximal(several), several[::-1])
+        self.assertEqual(maximal([state(left=11, any_left=9), *several]), several[::-1])
+        ring = Paper(ROOT, 1, ROOT, Limits(0, 99, steps=8, pairs=[("a", "a")]))
+        told = step(state(left=12, any_left=10, maps_left=9, region=ALL_NAMES), ring, Bag(), ask())
+        self.assertEqual(parts(told[1], "left", "any_left", "maps_left"), [(8, 9, 8)])
+
     def test_drawn_ones(self):
         for seed in range(60):
             source = drawing(seed)

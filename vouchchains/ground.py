@@ -2,13 +2,17 @@
 
 from vouchchains.masks import Masks
 
-# The number that stands for None where a count may be None: it is greater than all others.
-ALL = 9
+# The number that stands for None where a count may be None: no count is as great.
+ALL = 10 ** 9
 LISTS = "lists"
 
 
 class Stone:
-    """A paper over which a walk may step, with what the notices of the bag tell of it."""
+    """A paper over which a walk may step, with what the notices of the bag tell of it.
+
+    spot is the bit of its holder's name, realm the integer of its region, gone the day from which
+    it is back, or None, shown the Days on which it is covered, and lists whether it has this use.
+    """
 
     def __init__(self, at, paper, masks, bag):
         self.at = at
@@ -23,7 +27,7 @@ class Stone:
 
 
 class Root:
-    """An anchor from which a walk may start."""
+    """An anchor from which a walk may start; brings is what it carries rules to."""
 
     def __init__(self, at, anchor, masks):
         self.at = at

@@ -2,7 +2,6 @@
 
 from vouchchains.bags import Bag
 from vouchchains.checks import check
-from vouchchains.days import Days
 from vouchchains.ground import Ground
 from vouchchains.papers import Notice, Paper
 from vouchchains.searching import search

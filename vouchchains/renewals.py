@@ -33,9 +33,10 @@ def cover(wanted, offers):
 
 
 def cheapest(wanted, offers, prices):
-    """("cover", cost, indexes, rows): offers of the least cost, and what shows it; or ("bare", day).
+    """("cover", cost, indexes, rows): the cheapest offers with all wanted days, or ("bare", day).
 
-    Each row prices a wanted day: what all wanted days up to it cost more than those before it.
+    The rows (day, price) show that no offers do for less: a price is what all wanted days up to
+    its day cost more than those before it.
     """
     bare = _first_bare(wanted, offers)
     if bare is not None:

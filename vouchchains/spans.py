@@ -58,7 +58,7 @@ def paths_on(ground, question, days, limit):
 
 
 def parted_by(days, things):
-    """The list of (first, last, thing): each thing holds from its day to the one before the next."""
+    """The list of (first, last, thing): each thing lasts to the day before the next one's."""
     lasts = [*[day - 1 for day in days[1:]], LAST_DAY]
     return list(zip(days, lasts, things))
 
