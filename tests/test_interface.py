@@ -41,6 +41,25 @@ FUNCTIONS = {
         "with_paper": "(store, bag, question, path, at, paper)", "cover": "(wanted, offers)",
         "cheapest": "(wanted, offers, prices)",
     },
+    "fewest": {
+        "shut": "(store, bag, questions, *, spared=(), kept=(), limit=400)",
+        "is_shown": "(store, bag, questions, number, thing, *, spared=(), kept=())",
+    },
+    "trust": {
+        "opening": "(bag, anchor, questions, *, limit=400)",
+        "add": "(store, bag, questions, pool, *, barred=(), limit=400)",
+        "distrusted": "(store, bag, questions, *, limit=400)",
+    },
+    "further": {
+        "opened": "(store, bag, keeper, use, day, rules=None, strict=False, *, limit=400)",
+        "paper_for": "(store, bag, keeper, question, *, limit=400)",
+        "atlas": "(store, bag, keeper, rules=None, strict=False, *, limit=400)",
+    },
+    "pledges": {
+        "issued": "(bag, several, holder)",
+        "opens": "(store, bag, several, question, *, limit=400)",
+        "open_names": "(store, bag, several, use, day, rules=None, strict=False, *, limit=400)",
+    },
 }
 
 SETS = {name: "(self, other)" for name in ("__eq__", "__and__", "__or__", "__sub__", "within")}
@@ -108,6 +127,9 @@ METHODS = {
         **{name: "(self, store, question, *, limit=400)"
            for name in ("then", "now", "then_days", "now_days", "turned", "history")},
     },
+    ("pledges", "Pledge"): {
+        "__init__": "(self, issuer, to, limits)", "row": "(self)", "__eq__": "(self, other)",
+    },
 }
 
 CLASS_METHODS = [("regions", "Region", "of"), ("regions", "Region", "under"),
@@ -125,6 +147,7 @@ PROPERTIES = {
                           "region"],
     ("pieces", "Piece"): ["first", "last", "length", "steps", "names", "days", "region", "uses",
                           "unruled_for", "any_for", "maps_for", "inner"],
+    ("pledges", "Pledge"): ["issuer", "to", "limits"],
 }
 
 

@@ -2,7 +2,7 @@
 
 from vouchchains.checks import check
 from vouchchains.days import Days
-from vouchchains.papers import Anchor, Notice, Paper
+from vouchchains.papers import Anchor, Notice, Paper, unit_of
 from vouchchains.words import are_words, is_day, is_holder, is_word
 
 
@@ -32,7 +32,7 @@ class Bag:
 
     def without(self, units):
         """The Bag without the papers with one of these units (issuer, serial)."""
-        kept = [paper for paper in self._papers if (paper.issuer, paper.serial) not in units]
+        kept = [paper for paper in self._papers if unit_of(paper) not in units]
         return Bag(kept, self._notices)
 
     def back(self, issuer, serial):

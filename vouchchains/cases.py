@@ -7,7 +7,7 @@ by the papers, holds from the anchor, and the other one does not.
 from vouchchains.bags import Question
 from vouchchains.limits import MOST_STEPS, Limits
 from vouchchains.papers import Anchor, Paper
-from vouchchains.words import LAST_DAY, LETTERS
+from vouchchains.words import LAST_DAY, fresh
 
 MARK = "k"
 
@@ -65,12 +65,6 @@ def tail_for(piece, name, many, pairs=(), any_rule=False):
 def some_use(piece):
     """A use that a piece has."""
     return fresh([]) if piece.uses is None else piece.uses[0]
-
-
-def fresh(words):
-    """A word that is none of some words."""
-    longer = [first + second for first in LETTERS for second in LETTERS]
-    return [word for word in [*LETTERS, *longer] if word not in words][0]
 
 
 def named(pieces):

@@ -4,8 +4,9 @@ from vouchchains.bags import Bag
 from vouchchains.checks import check
 from vouchchains.ground import Ground
 from vouchchains.papers import Notice, Paper
-from vouchchains.searching import search
+from vouchchains.routes import is_open
 from vouchchains.spans import breaks, open_among, paths_on
+from vouchchains.walks import Walk
 from vouchchains.words import is_day
 
 
@@ -89,7 +90,7 @@ def _bag(things):
 
 def _is_open(store, bag, question, limit):
     """Whether a question is open."""
-    return search(store, bag, question, limit=limit)[0] == "open"
+    return is_open(Walk(Ground(store, bag, bag.papers()), question), limit)
 
 
 def _is_item(thing):

@@ -115,6 +115,11 @@ class Notice:
         return isinstance(other, Notice) and self._row == other._row
 
 
+def unit_of(paper):
+    """The unit of a paper."""
+    return (paper.issuer, paper.serial)
+
+
 def _is_entry(thing):
     """Whether a thing is an entry of a notice."""
     return isinstance(thing, tuple) and len(thing) == 2 and is_serial(thing[0]) and is_day(thing[1])

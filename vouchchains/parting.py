@@ -4,10 +4,11 @@ The pieces have the same first and last.
 """
 
 from vouchchains.carries import unlike
-from vouchchains.cases import (carried_pair, dated, fresh, named, ruled, ruled_reach, simple,
-                               some_use, tail_for, tail_of, unruled, unruled_reach, wide)
+from vouchchains.cases import (carried_pair, dated, named, ruled, ruled_reach, simple, some_use,
+                               tail_for, tail_of, unruled, unruled_reach, wide)
 from vouchchains.limits import MOST_STEPS
 from vouchchains.regions import Region
+from vouchchains.words import fresh
 
 
 def parted(one, other):

@@ -31,6 +31,16 @@ def layers_to(walk, holder, limit):
     return (layers, True)
 
 
+def is_open(walk, limit):
+    """Whether a question is open; it may raise TooMany(limit)."""
+    return layers_to(walk, walk.question.holder, limit)[1]
+
+
+def reached(walk, limit):
+    """The states that are kept of all that can be reached; it may raise TooMany(limit)."""
+    return layers_to(walk, None, limit)[0][-1]
+
+
 def leads(walk, states, holder):
     """Whether a step of one of some states leads to a holder."""
     for state in states:

@@ -1,7 +1,7 @@
 """The answer to a question: the least of the shortest paths, or a table that shows that none is."""
 
 from vouchchains.ground import Ground
-from vouchchains.routes import layers_to, leads, route
+from vouchchains.routes import leads, reached, route
 from vouchchains.states import State, taken, told
 from vouchchains.walks import LEFT, Walk, has_above, tops
 
@@ -16,7 +16,7 @@ def search(store, bag, question, *, limit=400):
 def table(store, bag, question, *, limit=400):
     """The ascending list of the states that are kept of all that can be reached."""
     walk = Walk(Ground(store, bag, bag.papers()), question)
-    return told(walk.ground.masks, layers_to(walk, None, limit)[0][-1])
+    return told(walk.ground.masks, reached(walk, limit))
 
 
 def is_table(store, bag, question, thing):

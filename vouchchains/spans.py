@@ -21,13 +21,7 @@ def open_parts(store, bag, question, *, limit=400):
     """The ascending list of (first, last, path), which part all days; path may be None."""
     days = breaks(store, bag)
     routes = paths_on(Ground(store, bag, bag.papers()), question, days, limit)
-    parts = []
-    for first, last, path in parted_by(days, routes):
-        if parts and parts[-1][2] == path:
-            parts[-1] = (parts[-1][0], last, path)
-        else:
-            parts.append((first, last, path))
-    return parts
+    return joined(parted_by(days, routes))
 
 
 def open_days(store, bag, question, *, limit=400):
@@ -61,6 +55,17 @@ def parted_by(days, things):
     """The list of (first, last, thing): each thing lasts to the day before the next one's."""
     lasts = [*[day - 1 for day in days[1:]], LAST_DAY]
     return list(zip(days, lasts, things))
+
+
+def joined(parts):
+    """The list of (first, last, thing) in which neighbouring ones with equal things are one."""
+    found = []
+    for first, last, thing in parts:
+        if found and found[-1][2] == thing:
+            found[-1] = (found[-1][0], last, thing)
+        else:
+            found.append((first, last, thing))
+    return found
 
 
 def open_among(days, routes):

@@ -9,17 +9,20 @@ from vouchchains.errors import TooMany
 from vouchchains.ground import ALL
 
 HOLDER = 0
+RULE = 1
 LEFT = 2
+UNRULED = 3
 LISTED = 6
 MASK = 7
 
 
 class Walk:
-    """A question that is followed over a Ground."""
+    """A question that is followed over a Ground; named are further rules that pairs name."""
 
-    def __init__(self, ground, question):
+    def __init__(self, ground, question, named=()):
         self.ground = ground
         self.question = question
+        self._rules = ["", *ground.known, *named]
         self._usable = {}
         for stone in ground.stones:
             if self._serves(stone):
@@ -111,7 +114,7 @@ class Walk:
         """The rules with which the starts at a root go, as in states, ascending."""
         if self.question.rules is not None:
             return _ruled(root.brings, self.question.rules)
-        return [(), *_ruled(root.brings, ["", *self.ground.known])]
+        return [(), *_ruled(root.brings, self._rules)]
 
 
 def _ruled(carry, rules):

@@ -48,6 +48,12 @@ def is_serial(thing):
     return is_integer(thing) and thing >= 0
 
 
+def is_unit(thing):
+    """Whether a thing is a unit: the issuer and the serial of papers."""
+    return (isinstance(thing, tuple) and len(thing) == 2
+            and is_holder(thing[0]) and is_serial(thing[1]))
+
+
 def are_words(thing):
     """Whether a thing is a list or a tuple of words."""
     return isinstance(thing, (list, tuple)) and all([is_word(word) for word in thing])
@@ -61,6 +67,12 @@ def at_most(count, other):
 def optional(thing):
     """What a row has for a thing that may be None: rows must be such that they can be ordered."""
     return () if thing is None else (thing,)
+
+
+def fresh(words):
+    """A word that is none of some words."""
+    longer = [first + second for first in LETTERS for second in LETTERS]
+    return [word for word in [*LETTERS, *longer] if word not in words][0]
 
 
 def begins(name, other):
