@@ -60,6 +60,15 @@ FUNCTIONS = {
         "opens": "(store, bag, several, question, *, limit=400)",
         "open_names": "(store, bag, several, use, day, rules=None, strict=False, *, limit=400)",
     },
+    "stores": {"apart": "(one, other)", "lets_all": "(one, other)"},
+    "notation": {
+        "show": "(thing)", "show_name": "(name)", "show_holder": "(holder)",
+        "show_region": "(region)", "show_words": "(words)", "show_log": "(book)",
+        **{name: "(text)" for name in (
+            "read_name", "read_holder", "read_region", "read_words", "read_paper", "read_anchor",
+            "read_notice", "read_deed", "read_log")},
+    },
+    "desk": {"answered": "(text, line)"},
 }
 
 SETS = {name: "(self, other)" for name in ("__eq__", "__and__", "__or__", "__sub__", "within")}
@@ -130,6 +139,13 @@ METHODS = {
     ("pledges", "Pledge"): {
         "__init__": "(self, issuer, to, limits)", "row": "(self)", "__eq__": "(self, other)",
     },
+    ("books", "Book"): {
+        "__init__": "(self)", "do": "(self, deed)", "put_in": "(self, at, deed)", "undo": "(self)",
+        "redo": "(self)", "log": "(self)", "store": "(self)", "archive": "(self)",
+        "past": "(self, count)", "copied": "(self)", "tried": "(self, deeds)",
+        "__eq__": "(self, other)", "__len__": "(self)",
+    },
+    ("desk", "Desk"): {"__init__": "(self)", "execute": "(self, line)"},
 }
 
 CLASS_METHODS = [("regions", "Region", "of"), ("regions", "Region", "under"),

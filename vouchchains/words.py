@@ -70,9 +70,12 @@ def optional(thing):
 
 
 def fresh(words):
-    """A word that is none of some words."""
-    longer = [first + second for first in LETTERS for second in LETTERS]
-    return [word for word in [*LETTERS, *longer] if word not in words][0]
+    """A word that is none of some words, if these are not all of one and two letters."""
+    for first in ["", *LETTERS]:
+        for second in LETTERS:
+            if first + second not in words:
+                return first + second
+    return None
 
 
 def begins(name, other):
