@@ -1,7 +1,7 @@
 """Papers, stores and questions that bar nothing but what a test says, and many states."""
 
 from vouchchains.bags import Question, Store
-from vouchchains.errors import TooMany
+from vouchchains.errors import TooMany, VouchError
 from vouchchains.limits import Limits
 from vouchchains.papers import Anchor, Paper
 from vouchchains.regions import Region
@@ -38,4 +38,13 @@ def raised(call, *arguments, **more):
         call(*arguments, **more)
     except TooMany as error:
         return error.limit
+    return None
+
+
+def error(call, *arguments):
+    """The error of the package that a call raises, or None."""
+    try:
+        call(*arguments)
+    except VouchError as found:
+        return found
     return None

@@ -4,12 +4,12 @@ import unittest
 
 from vouchchains.bags import Bag, Store
 from vouchchains.books import Book
-from vouchchains.errors import Broken, NoDeed, Nothing, Taken, TooMany, Unknown, VouchError, Wrong
+from vouchchains.errors import Broken, NoDeed, Nothing, Taken, TooMany, Unknown, Wrong
 from vouchchains.known import Archive
 from vouchchains.limits import Limits
 from vouchchains.papers import Anchor, Notice, Paper
 from kinds import EVERY_KIND, Other, deep, drawing, wrong_at
-from makes import END, LOW, MID, ROOT, anchor, ask, paper
+from makes import END, LOW, MID, ROOT, anchor, error, paper
 import worlds
 
 LAST_DAY = 10 ** 9
@@ -27,15 +27,6 @@ def made(*deeds):
     for deed in deeds:
         book.do(deed)
     return book
-
-
-def error(call, *arguments):
-    """The VouchError that a call raises, or None."""
-    try:
-        call(*arguments)
-    except VouchError as found:
-        return found
-    return None
 
 
 def looks(book):
@@ -611,7 +602,6 @@ class AsArguments(BookCase):
     def test_wrong_is_of_the_package(self):
         with self.assertRaises(Wrong):
             Book().past(None)
-        self.assertEqual(ask().day, 30)
 
 
 if __name__ == "__main__":

@@ -5,8 +5,7 @@ import unittest
 from vouchchains.bags import Bag, Question, Store
 from vouchchains.books import Book
 from vouchchains.desk import Desk, answered
-from vouchchains.errors import (Broken, NoCommand, NoText, Nothing, Taken, TooMany, Unknown,
-                                VouchError)
+from vouchchains.errors import Broken, NoCommand, NoText, Nothing, Taken, TooMany, Unknown
 from vouchchains.fewest import shut
 from vouchchains.further import opened
 from vouchchains.judging import judged
@@ -18,7 +17,7 @@ from vouchchains.papers import Notice, Paper
 from vouchchains.searching import search
 from vouchchains.spans import next_turn, open_days
 from kinds import EVERY_KIND, Other, deep, drawing
-from makes import END, LOW, MID, ROOT, anchor, paper
+from makes import END, LOW, MID, ROOT, anchor, error, paper
 import worlds
 
 FREE = "8 +. all none any all all all"
@@ -35,14 +34,6 @@ def desk(*lines):
     for line in lines:
         made.execute(line)
     return made
-
-
-def error(call, *arguments):
-    try:
-        call(*arguments)
-    except VouchError as found:
-        return found
-    return None
 
 
 def asked_as(question):

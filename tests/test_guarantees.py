@@ -15,7 +15,7 @@ from vouchchains.regions import Region
 from vouchchains.renewals import with_paper
 from vouchchains.searching import is_table, search, table
 from vouchchains.spans import breaks, open_days, open_parts
-from vouchchains.states import State, starts, step
+from vouchchains.states import starts, step
 from kinds import drawing, shuffled
 from renaming import PARTS, Words, limits_with
 import plain

@@ -213,7 +213,7 @@ class Pledges(unittest.TestCase):
 
     def test_one_paper_of_each_to_each_holder_that_matters(self):
         found = []
-        for seed, source, store, bag, asked in small(1700, 160, 4):
+        for seed, source, store, bag, asked in small(1700, 120, 4):
             several = [Pledge(source.choice(worlds.HOLDERS),
                               source.choice([source.choice(worlds.HOLDERS), Region.under(())]),
                               worlds.limits(source, 0.85)) for _ in range(2)]
@@ -225,7 +225,7 @@ class Pledges(unittest.TestCase):
             wider = bag | Bag([*issued(bag, several, asked.holder), *twice])
             self.assertEqual(search(store, wider, asked)[0], word, seed)
             papers = []
-            for at in range(4):
+            for at in range(3):
                 one = source.choice(several)
                 to = one.to if one.to.__class__ is tuple else source.choice(worlds.HOLDERS)
                 papers.append(Paper(one.issuer, 70 + at, to, one.limits))

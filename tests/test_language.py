@@ -42,6 +42,14 @@ BARRED_WORDS = set("""
     _wall _WallAttr
 """.split())
 
+# The methods of strings, lists, dicts and sets that may be called.
+PLAIN_METHODS = set("""
+    append clear copy count endswith extend find get index insert isalnum isalpha isdigit islower
+    isspace isupper items join keys ljust lower lstrip partition pop remove replace reverse rfind
+    rjust rpartition rsplit rstrip setdefault split splitlines startswith strip update upper values
+    zfill bit_length add discard
+""".split())
+
 STATEMENTS = (ast.Expr, ast.ImportFrom, ast.FunctionDef, ast.ClassDef, ast.Assign)
 BARRED_NODES = (ast.Div, ast.AsyncFunctionDef, ast.Await, ast.GeneratorExp, ast.Import,
                 ast.TryStar, ast.MatMult, ast.Global)
@@ -192,6 +200,55 @@ class Language(unittest.TestCase):
                         self.assertIn(mark.id, ("property", "classmethod", "staticmethod"))
                 if isinstance(node, ast.ClassDef):
                     self.assertEqual(node.decorator_list, [])
+
+    def members(self):
+        """(methods, properties, attributes): the names that the classes of the package give."""
+        methods, properties, attributes = set(), set(), set()
+        for path in PATHS:
+            for node in ast.walk(parsed(path)):
+                if isinstance(node, ast.Attribute) and isinstance(node.ctx, ast.Store):
+                    attributes.add(node.attr)
+                if isinstance(node, ast.ClassDef):
+                    for inner in node.body:
+                        if isinstance(inner, ast.FunctionDef):
+                            marks = [mark.id for mark in inner.decorator_list]
+                            (properties if "property" in marks else methods).add(inner.name)
+        return (methods, properties, attributes)
+
+    def test_properties_are_neither_methods_nor_attributes(self):
+        methods, properties, attributes = self.members()
+        self.assertEqual(properties & (methods | attributes | PLAIN_METHODS), set())
+        self.assertEqual(attributes & PLAIN_METHODS, set())
+
+    def test_methods_that_are_called(self):
+        methods = self.members()[0]
+        for path in PATHS:
+            for node in ast.walk(parsed(path)):
+                if isinstance(node, ast.Call) and isinstance(node.func, ast.Attribute):
+                    self.assertIn(node.func.attr, methods | PLAIN_METHODS, (path, node.lineno))
+
+    def test_attributes_that_are_read(self):
+        known = set().union(*self.members()) | PLAIN_METHODS
+        for path in PATHS:
+            for node in ast.walk(parsed(path)):
+                if isinstance(node, ast.Attribute):
+                    self.assertIn(node.attr, known, (path, node.lineno))
+
+    def test_what_is_iterated_at_once(self):
+        taking = ("list", "tuple", "dict", "sorted", "sum", "any", "all", "enumerate", "zip", "min",
+                  "max", "len")
+        for path in PATHS:
+            tree = parsed(path)
+            above = parents(tree)
+            for node in ast.walk(tree):
+                if isinstance(node, ast.Call) and isinstance(node.func, ast.Attribute):
+                    name = node.func.attr if node.func.attr in ("items", "keys", "values") else None
+                else:
+                    name = called(node)
+                if name in ("zip", "enumerate", "range", "reversed", "items", "keys", "values"):
+                    outer = above[node]
+                    iterated = isinstance(outer, (ast.For, ast.comprehension)) and outer.iter is node
+                    self.assertTrue(iterated or called(outer) in taking, (path, node.lineno))
 
     def test_is_stands_beside_none_true_and_false(self):
         for path in PATHS:

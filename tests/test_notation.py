@@ -185,7 +185,7 @@ class Wrong(unittest.TestCase):
                     "=all ", "=none\n", "b,a", "a,a", "none,all", "web,all", "None", "ALL", "a,b,a", ".")
 
     def test_integers(self):
-        for text in ("", "00", "01", "007", "+1", "-1", "-0", "1.0", "1e3", "0x1", "1_0", " 1", "1 ",
+        for text in ("", "00", "01", "007", "x", "1x", "1a", "+1", "-1", "-0", "1.0", "1e3", "0x1", "1_0", " 1", "1 ",
                      "1\n", "a", "all", "none", str(TOO_BIG), "0" * 41, "9" * 41, "9" * 3000):
             self.refuse(read_paper, f"paper root:r {text} mid:m {WIDE}")
             self.refuse(read_notice, f"notice root:r {text} 3 none", f"notice root:r 3 {text} none",
@@ -262,7 +262,9 @@ class Wrong(unittest.TestCase):
                     f"arrive 3 notice root:r 1 mid:m {WIDE}", "arrive 3 paper root:r 3 3 none",
                     f"Trust mid:m {WIDE}", f"trusts mid:m {WIDE}", "back 1 root:r#1", "back 1 root:r#1 3 4",
                     "back 1 1 root:r#1", "renew 1 root:r#1 2 3", "renew 1 root:r#1 2 3 4 5",
-                    "renew root:r#1 1 2 3 4", "back 1 root:r 3", "undo 1", "ask a:k web 5 all soft")
+                    "renew root:r#1 1 2 3 4", "back 1 root:r 3", "undo 1", "ask a:k web 5 all soft",
+                    "forth 1 root:r#1 3", "bac 1 root:r#1 3", "anew 1 root:r#1 2 3 4",
+                    "depart 3 notice root:r 3 3 none")
 
     def test_one_sign_off(self):
         """Each text that is read is written as it was."""

@@ -369,6 +369,15 @@ class TooManyStates(unittest.TestCase):
             many = len(table(self.STORE, wider, asked, limit=4000))
             self.assertIsNone(raised(names, self.STORE, bag, several, asked, limit=many))
 
+    def test_pledges_that_issue_nothing_name_no_rules(self):
+        # With the rules of the pairs there would be more states.
+        limits = Limits(0, 99, steps=8, pairs=[("x", "y")])
+        several = [Pledge(ROOT, Region(), limits)]
+        self.assertEqual(len(table(store(), Bag(), ask())), 2)
+        self.assertIsNone(raised(open_names, store(), Bag(), several, "web", 30, limit=2))
+        self.assertIn(raised(open_names, store(), Bag(), [Pledge(ROOT, ALL, limits)], "web", 30, limit=2),
+                      (None, 2))
+
     def test_drawn_worlds(self):
         for seed, stores, bag, several, asked in drawn(3000, 40):
             most = 1

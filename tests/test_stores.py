@@ -125,6 +125,7 @@ class Apart(StoresCase):
         self.differ(trust(uses=["mail", "web"]), trust(uses=["web"]))
         self.differ(trust(uses=["a"]), trust(uses=[]))
         self.differ(trust(), trust(uses=list("abcdefgh")))
+        self.differ(trust(), trust(uses=[*"abcdefg", "lists"]))
         self.alike([trust(uses=["web"]), trust(uses=["mail"])], [trust(uses=["mail", "web"])])
 
     def test_pairs(self):
@@ -167,6 +168,24 @@ class Apart(StoresCase):
         self.alike([trust(steps=3)], [trust(steps=3, maps_for=3)])
         none = {"any_rule": False, "pairs": []}
         self.alike([trust(**none)], [trust(maps_for=0, **none)])
+
+    def test_plain_pairs_alone(self):
+        one = trust(unruled_for=0, any_for=0, maps_for=0)
+        self.differ(one, trust(unruled_for=0, any_for=0, maps_for=0, steps=0))
+        self.differ(one, trust(unruled_for=0, any_for=0, maps_for=0, steps=1), 2)
+        self.differ(one, trust(unruled_for=0, any_for=0, maps_for=0, any_rule=False))
+
+    def test_a_rule_that_is_turned_and_goes_on(self):
+        rivals = [trust(unruled_for=0, maps_for=0), trust(unruled_for=0, steps=1)]
+        self.assertEqual(self.check(Store([trust(unruled_for=0, maps_for=1)]), Store(rivals)), (0, 2))
+        rivals = [trust(unruled_for=0, maps_for=1), trust(unruled_for=0, maps_for=2, steps=4)]
+        self.assertEqual(self.check(Store([trust(unruled_for=0, maps_for=2)]), Store(rivals)), (0, 5))
+
+    def test_what_an_anchor_carries_a_rule_to_and_any_rule_further_on(self):
+        bare = {"steps": 2, "any_rule": False, "unruled_for": 0}
+        whole = trust(pairs=[("a", "b")], **bare)
+        rivals = [trust(pairs=[("a", "c")], **bare), trust(pairs=[("a", "b")], any_for=1, **bare)]
+        self.assertEqual(self.check(Store([whole, *rivals]), Store(rivals)), (0, 2))
 
     def test_counts_against_one_another(self):
         # One lets in more without a rule, the other one more with any rule.

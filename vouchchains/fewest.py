@@ -46,7 +46,7 @@ class Cutting:
 
     def look(self, units):
         """None if the bag without these units is an answer, otherwise (row, units of a path)."""
-        ground = self._ground(units)
+        ground = self._remaining(units)
         for at, question in enumerate(self._kept):
             if not is_open(Walk(ground, question), self._limit):
                 return ((list(units), at, None), [])
@@ -61,11 +61,11 @@ class Cutting:
         units, at, path = row
         if path is None:
             return (at < len(self._kept)
-                    and not is_open(Walk(self._ground(units), self._kept[at]), self._limit))
+                    and not is_open(Walk(self._remaining(units), self._kept[at]), self._limit))
         return (at < len(self._questions)
                 and Trial(self._store, self._bag.without(units), path).holds(self._questions[at]))
 
-    def _ground(self, units):
+    def _remaining(self, units):
         """The Ground that is left without some units."""
         rest = self._bag.without(units)
         return Ground(self._store, rest, rest.papers())

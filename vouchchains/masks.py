@@ -27,10 +27,6 @@ class Masks:
             known = known[:-1]
         return self._bits[known]
 
-    def spots(self):
-        """The list of (name, bit) of all cells, ascending."""
-        return [(name, self._bits[name]) for name in self._names]
-
     def drawn(self, mask):
         """The Region of an integer."""
         if mask not in self._drawn:

@@ -65,20 +65,25 @@ def opens(store, bag, several, question, *, limit=400):
 def open_names(store, bag, several, use, day, rules=None, strict=False, *, limit=400):
     """The Region of the names that papers of some Pledges can open, for a mark of nobody else."""
     pledges = _different(several)
-    # Whoever is asked for issues nothing, so that papers to it come last in a path.
+    # Whoever is asked for issues nothing, so that a paper to it comes last in a path.
     holders = sorted(set(_keepers(bag, pledges)))
     wider = bag | Bag(_papers(bag, [(pledge, bound) for pledge in pledges
                                     for bound in _bound(pledge, holders)]))
-    wide = [pledge for pledge in pledges if isinstance(pledge.to, Region)]
-    ground = Ground(store, wider, wider.papers(), [pledge.to for pledge in wide])
-    ends = [_end(bag, pledge, ground.masks) for pledge in wide]
+    ends = [pledge for pledge in pledges if isinstance(pledge.to, Region) and bool(pledge.to)
+            and pledge.limits.on(day, use)]
+    ground = Ground(store, wider, wider.papers(), [pledge.to for pledge in ends])
+    question = Question(((), "a"), use, day, rules, strict)
+    tables = {}
     found = 0
-    for named, mask in _by_rules(ground, ends):
-        walk = Walk(ground, Question(((), "a"), use, day, rules, strict), named)
-        for state in reached(walk, limit):
-            for stone in ends:
-                if walk.step(state, stone)[0] == "on":
-                    found = found | (state[MASK] & stone.spot & mask)
+    for pledge in ends:
+        # The paper to the asked holder names the rules of its pairs, too.
+        named = tuple([rule for pair in pledge.limits.pairs for rule in pair
+                       if rule not in ground.known])
+        if named not in tables:
+            walk = Walk(ground, question, named)
+            tables[named] = (walk, reached(walk, limit))
+        walk, states = tables[named]
+        found = found | _ended(bag, pledge, walk, states)
     return ground.masks.drawn(found)
 
 
@@ -114,21 +119,14 @@ def _papers(bag, bonds):
     return papers
 
 
-def _end(bag, pledge, masks):
-    """A stone for a paper of a Pledge to any name of its region: its spot has all their bits."""
+def _ended(bag, pledge, walk, states):
+    """The integer of the names in a Pledge's region to which its papers go on from some states."""
+    masks = walk.ground.masks
     serial = further_serials(bag, pledge.issuer, 1)[0]
-    stone = Stone(0, Paper(pledge.issuer, serial, pledge.issuer, pledge.limits), masks, bag)
-    stone.spot = masks.mask(pledge.to)
-    return stone
-
-
-def _by_rules(ground, ends):
-    """The list of (rules, mask): the names, by the rules that papers to them name beside others."""
-    masks = {}
-    for _, bit in ground.masks.spots():
-        bound = [stone for stone in ends if stone.spot & bit]
-        named = sorted(set([rule for stone in bound for pair in stone.paper.limits.pairs
-                            for rule in pair if rule not in ground.known]))
-        if bound:
-            masks[tuple(named)] = masks.get(tuple(named), 0) | bit
-    return list(masks.items())
+    end = Stone(0, Paper(pledge.issuer, serial, pledge.issuer, pledge.limits), masks, bag)
+    end.spot = masks.mask(pledge.to)
+    found = 0
+    for state in states:
+        if walk.step(state, end)[0] == "on":
+            found = found | (state[MASK] & end.spot)
+    return found
